@@ -1,0 +1,1 @@
+"""Who holds which seat in a conversation."""
