@@ -3,8 +3,9 @@
 from seatheld.asking import ask_acts, ask_beside, ask_doers, ask_holder, ask_matters, ask_moves
 from seatheld.faults import TextFault
 from seatheld.reading import read_script
+from seatheld.recounting import ask_doings, ask_now, ask_options, ask_run, ask_say, ask_seats, ask_standing, ask_trail
 from seatheld.settling import study_of
-from seatheld.telling import Tale, count_options
+from seatheld.telling import Tale, options_of
 
 NO_SCRIPT = -1
 NOT_SETTLED = -3
@@ -47,8 +48,6 @@ def answer_call(desk, call, numbers):
     refusal = common_refusal(desk, call)
     if refusal != 0:
         return [refusal]
-    if call >= FIRST_OF_TALE:
-        raise NotImplementedError("the calls 9 to 16 on a tale")
     return CALLS[call](desk, numbers)
 
 
@@ -107,10 +106,43 @@ def call_beside(desk, numbers):
 
 def call_begin(desk, numbers):
     desk.tale = Tale(desk.study.script)
-    return [count_options(desk.study.script, desk.tale)]
+    return [len(options_of(desk.tale))]
+
+
+def call_options(desk, numbers):
+    return ask_options(desk.tale)
+
+
+def call_say(desk, numbers):
+    return ask_say(desk.tale, numbers[0])
+
+
+def call_run(desk, numbers):
+    return ask_run(desk.tale, numbers)
+
+
+def call_now(desk, numbers):
+    return ask_now(desk.tale, numbers[0])
+
+
+def call_seats(desk, numbers):
+    return ask_seats(desk.tale, numbers[0])
+
+
+def call_doings(desk, numbers):
+    return ask_doings(desk.tale, numbers[0])
+
+
+def call_trail(desk, numbers):
+    return ask_trail(desk.tale, numbers[0])
+
+
+def call_standing(desk, numbers):
+    return ask_standing(desk.tale)
 
 
 CALLS = (
     call_load, call_settled, call_holder, call_matters, call_acts, call_doers, call_moves,
-    call_beside, call_begin,
+    call_beside, call_begin, call_options, call_say, call_run, call_now, call_seats, call_doings,
+    call_trail, call_standing,
 )

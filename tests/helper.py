@@ -59,6 +59,38 @@ def begin():
     return [8]
 
 
+def options():
+    return [9]
+
+
+def say(k):
+    return [10, k]
+
+
+def run(*numbers):
+    return [11, len(numbers)] + list(numbers)
+
+
+def now(x):
+    return [12, x]
+
+
+def seats(w):
+    return [13, w]
+
+
+def doings(w):
+    return [14, w]
+
+
+def trail(x):
+    return [15, x]
+
+
+def standing():
+    return [16]
+
+
 # One call of each number from 9 to 16, with rows of different lengths for run.
 TALE_CALLS = (
     [9], [10, 0], [10, -HUGE], [11, 0], [11, 3, 0, 8, -1], [12, 0], [13, HUGE], [14, 1], [15, 2], [16],
@@ -100,6 +132,18 @@ def marked(text):
     if text.count("^") != 1:
         raise AssertionError("one mark is asked for: %r" % (text,))
     return text.replace("^", ""), text.index("^")
+
+
+class LongCase(unittest.TestCase):
+    def check_long(self, given, asked, told=""):
+        """Equal lists; of long ones that differ unittest's own message would take minutes to write."""
+        if given == asked:
+            return
+        pairs = enumerate(zip(given, asked))
+        at = next((number for number, (one, other) in pairs if one != other), min(len(given), len(asked)))
+        given_part, asked_part = [str(numbers[at:at + 1])[:300] for numbers in (given, asked)]
+        self.fail("at %d of %d and %d: %s is not %s; %s" % (
+            at, len(given), len(asked), given_part, asked_part, str(told)[:3000]))
 
 
 class FaultCase(unittest.TestCase):

@@ -142,6 +142,11 @@ class Language(unittest.TestCase):
                     bound.append(node.name)
             self.assertEqual(len(bound), len(set(bound)), name)
 
+    def defined_in(self, name):
+        tops = self.trees[name].body
+        given = [top.targets[0].id for top in tops if isinstance(top, ast.Assign)]
+        return given + [top.name for top in tops if isinstance(top, (ast.FunctionDef, ast.ClassDef))]
+
     def test_imports(self):
         drawn = {}
         for name, tree in self.trees.items():
@@ -151,7 +156,7 @@ class Language(unittest.TestCase):
                     self.assertRegex(node.module, r"^seatheld\.[a-z]+$")
                     source = node.module.split(".")[1]
                     drawn[name[:-3]].append(source)
-                    defined = [top.name for top in self.trees[source + ".py"].body if hasattr(top, "name")]
+                    defined = self.defined_in(source + ".py")
                     for alias in node.names:
                         self.assertIsNone(alias.asname, name)
                         self.assertIn(alias.name, defined, name)

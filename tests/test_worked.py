@@ -1,9 +1,10 @@
-"""The rows that the document works out, as far as calls 0 to 8 go."""
+"""The rows that the document works out."""
 
 import unittest
 
 from tests.helper import (
-    TILL, TILL_SETTLED, acts, ask, ask_of, beside, begin, doers, holder, load, matters, moves, settled,
+    TILL, TILL_SETTLED, acts, ask, ask_of, beside, begin, doers, doings, holder, load, matters, moves, now, options,
+    run, say, seats, settled, standing, trail,
 )
 
 
@@ -14,10 +15,27 @@ class WorkedRows(unittest.TestCase):
     def test_till_with_done_behind_price(self):
         given = ask(
             load(TILL_SETTLED), settled(), holder(2, 3), holder(3, 3), acts(0), acts(2), matters(1), matters(2),
-            begin(),
+            begin(), run(0, 0), now(3), trail(3), doings(1), say(0),
         )
-        self.assertEqual(
-            given, [[1], [1], [2], [-5], [3, 0, 1, 2], [2, 0, 2], [4, 0, 1, 2, 3], [2, 0, 3], [2]])
+        self.assertEqual(given, [
+            [1], [1], [2], [-5], [3, 0, 1, 2], [2, 0, 2], [4, 0, 1, 2, 3], [2, 0, 3],
+            [2], [2], [2], [2, 1, 2], [2, 1, 0, 3, 0, 0, 0, 1, 2, 1, 0], [2, 0, 3, 0, 2, 0],
+        ])
+
+    def test_the_whole_tale_of_the_settled_till(self):
+        given = ask_of(
+            TILL_SETTLED, begin(), options(), standing(), say(0), options(), say(0), standing(), seats(1), seats(2),
+            say(0), options(), standing(), doings(0), doings(2), trail(0), say(0), run(0),
+        )
+        self.assertEqual(given, [
+            [2], [2, 0, 0, 0, 1], [1, 0], [0, 1, 0, 3, 0, 0], [1, 1, 0], [1, 2, 1, 2, 1, 0], [1, 2], [1, 1],
+            [2, 2, 3], [2, 0, 3, 0, 2, 0], [0], [0], [2, 0, 0, 3, 0, 0, 1, 3, 0, 2, 0],
+            [2, 1, 1, 2, 1, 0, 0, 3, 0, 2, 0], [1, 0], [-8], [0],
+        ])
+
+    def test_till_that_says_bye(self):
+        given = ask_of(TILL_SETTLED, begin(), say(1), options(), standing(), doings(1), doings(2), trail(3), say(0))
+        self.assertEqual(given, [[2], [0, 1, 0, 3, 0, 1], [0], [0], [1, 1, 0, 3, 0, 1], [0], [1, 1], [-8]])
 
     def test_more_of_the_settled_till(self):
         given = ask_of(
